@@ -14,6 +14,7 @@ import (
 	"strongbox/array"
 	"strongbox/disk"
 	"strongbox/rs"
+	"strongbox/watch"
 )
 
 // The limits, written out, so that one that moves is found.
@@ -25,75 +26,12 @@ const (
 	maxPath   = 600
 )
 
-// watched is a disk that tells each of its operations in a log that several may share. Ahead of each it asks what befalls it: with an error the operation is not done.
-type watched struct {
-	*disk.Sim
-	number int
-	log    *[]string
-	before func(op string) api.Errno
-}
-
-func (w *watched) ask(op string, told ...string) api.Errno {
-	*w.log = append(*w.log, fmt.Sprintf("%d %s %s", w.number, op, strings.Join(told, " ")))
-	if w.before == nil {
-		return api.OK
-	}
-	return w.before(op)
-}
-
-func (w *watched) Read(path string) ([]byte, api.Errno) {
-	if e := w.ask("Read", path); e != api.OK {
-		return nil, e
-	}
-	return w.Sim.Read(path)
-}
-
-func (w *watched) Write(path string, b []byte) api.Errno {
-	if e := w.ask("Write", path, fmt.Sprint(len(b))); e != api.OK {
-		return e
-	}
-	return w.Sim.Write(path, b)
-}
-
-func (w *watched) Sync(path string) api.Errno {
-	if e := w.ask("Sync", path); e != api.OK {
-		return e
-	}
-	return w.Sim.Sync(path)
-}
-
-func (w *watched) Rename(from, to string) api.Errno {
-	if e := w.ask("Rename", from, to); e != api.OK {
-		return e
-	}
-	return w.Sim.Rename(from, to)
-}
-
-func (w *watched) Delete(path string) api.Errno {
-	if e := w.ask("Delete", path); e != api.OK {
-		return e
-	}
-	return w.Sim.Delete(path)
-}
-
-func (w *watched) List(prefix string) ([]string, api.Errno) {
-	if e := w.ask("List", prefix); e != api.OK {
-		return nil, e
-	}
-	return w.Sim.List(prefix)
-}
-
 // saveOps are the operations of a Save, in order.
 var saveOps = []string{"Write", "Sync", "Rename"}
 
 // saving is how a log tells the first so many operations of a Save.
 func saving(number int, path string, length, ops int) []string {
-	all := []string{
-		fmt.Sprintf("%d Write tmp %d", number, length),
-		fmt.Sprintf("%d Sync tmp", number),
-		fmt.Sprintf("%d Rename tmp %s", number, path),
-	}
-	return all[:ops]
+	return watch.Saving(number, path, length)[:ops]
 }
 
 func shape(k, m int) api.Shape { return api.Shape{K: k, M: m, Block: minBlock} }
@@ -109,15 +47,13 @@ func sims(n int, f *disk.Fuse) ([]*disk.Sim, []disk.Disk) {
 	return own, disks
 }
 
-// watch is an array of n watched disks of 1000 bytes, and the log that they share.
-func watch(t *testing.T, s api.Shape) (*array.Array, []*watched, *[]string) {
+// watched is an array of disks of 1000 bytes that tell what they are asked, and the log that they share.
+func watched(t *testing.T, s api.Shape) (*array.Array, []*watch.Disk, *[]string) {
 	t.Helper()
-	log := &[]string{}
-	var own []*watched
+	own, log := watch.Disks(s.K+s.M, 1000, nil)
 	var disks []disk.Disk
-	for i := range s.K + s.M {
-		w := &watched{Sim: disk.New(1000, nil), number: i, log: log}
-		own, disks = append(own, w), append(disks, w)
+	for _, w := range own {
+		disks = append(disks, w)
 	}
 	return made(t, s, disks), own, log
 }
@@ -169,36 +105,20 @@ func wantLog(t *testing.T, what string, log *[]string, ops ...string) {
 	*log = nil
 }
 
-// state tells all that can be seen of a disk.
-func state(s *disk.Sim) string {
-	var b strings.Builder
-	for _, p := range s.Files() {
-		c, synced, _ := s.Look(p)
-		fmt.Fprintf(&b, "%q %q %v; ", p, c, synced)
-	}
-	return b.String()
-}
-
-func states(own []*watched) string {
+func states(own []*watch.Disk) string {
 	var b strings.Builder
 	for _, w := range own {
-		b.WriteString(state(w.Sim) + "| ")
+		b.WriteString(watch.State(w.Sim) + "| ")
 	}
 	return b.String()
 }
 
 func wantState(t *testing.T, what string, s *disk.Sim, wanted string) {
 	t.Helper()
-	if got := state(s); got != wanted {
+	if got := watch.State(s); got != wanted {
 		t.Fatalf("%s: the disk has %s; want %s", what, got, wanted)
 	}
 }
-
-// synced is how state tells a file that is.
-func synced(path, b string) string { return fmt.Sprintf("%q %q true; ", path, b) }
-
-// loose is how state tells a file that is not synced.
-func loose(path, b string) string { return fmt.Sprintf("%q %q false; ", path, b) }
 
 // put makes a file behind the array's back, synced.
 func put(t *testing.T, s *disk.Sim, path string, b []byte) {
@@ -525,16 +445,16 @@ func TestSave(t *testing.T) {
 	for _, length := range []int{0, 1, 2, 11, 500} {
 		b := filled(length)
 		for i := range 4 {
-			a, own, log := watch(t, shape(3, 1))
+			a, own, log := watched(t, shape(3, 1))
 			for j, w := range own {
 				put(t, w.Sim, "x", []byte{byte(j)})
 			}
 			want(t, "Save", a.Save(i, "j/6162", b), api.OK)
 			wantLog(t, "Save", log, saving(i, "j/6162", length, 3)...)
 			for j, w := range own {
-				wanted := synced("x", string(byte(j)))
+				wanted := watch.Synced("x", string(byte(j)))
 				if j == i {
-					wanted = synced("j/6162", string(b)) + wanted
+					wanted = watch.Synced("j/6162", string(b)) + wanted
 				}
 				wantState(t, "Save", w.Sim, wanted)
 			}
@@ -545,38 +465,38 @@ func TestSave(t *testing.T) {
 // P12.2: no bytes may be nil, too.
 func TestSaveOfNothing(t *testing.T) {
 	for _, b := range [][]byte{nil, {}} {
-		a, own, log := watch(t, shape(1, 1))
+		a, own, log := watched(t, shape(1, 1))
 		want(t, "Save", a.Save(1, "x", b), api.OK)
 		wantLog(t, "Save", log, saving(1, "x", 0, 3)...)
-		wantState(t, "Save", own[1].Sim, synced("x", ""))
+		wantState(t, "Save", own[1].Sim, watch.Synced("x", ""))
 	}
 }
 
 // P12.2: what was there is replaced, shorter or longer, and so is what was left at tmp.
 func TestSaveAgain(t *testing.T) {
-	a, own, log := watch(t, shape(1, 1))
+	a, own, log := watched(t, shape(1, 1))
 	for _, b := range []string{"elder", "younger one", "", "y", "elder"} {
 		want(t, "Write of tmp", own[0].Sim.Write("tmp", []byte("left over from a crash")), api.OK)
 		want(t, "Save", a.Save(0, "x", []byte(b)), api.OK)
 		wantLog(t, "Save", log, saving(0, "x", len(b), 3)...)
-		wantState(t, "Save", own[0].Sim, synced("x", b))
+		wantState(t, "Save", own[0].Sim, watch.Synced("x", b))
 	}
 	want(t, "Save of tmp", a.Save(0, "tmp", []byte("t")), api.OK)
 	wantLog(t, "Save of tmp", log, saving(0, "tmp", 1, 3)...)
-	wantState(t, "Save of tmp", own[0].Sim, synced("tmp", "t")+synced("x", "elder"))
+	wantState(t, "Save of tmp", own[0].Sim, watch.Synced("tmp", "t")+watch.Synced("x", "elder"))
 }
 
 // elder is an array of two watched disks, of which the first has a file that a Save may replace.
-func elder(t *testing.T) (*array.Array, *watched, *[]string) {
+func elder(t *testing.T) (*array.Array, *watch.Disk, *[]string) {
 	t.Helper()
-	a, own, log := watch(t, shape(1, 1))
+	a, own, log := watched(t, shape(1, 1))
 	put(t, own[0].Sim, "x", []byte("elder"))
 	return a, own[0], log
 }
 
 // leftAt is what a Save of "new" that failed at that operation, not done, leaves beside the elder file.
 func leftAt(failed int) string {
-	return []string{"", loose("tmp", "new"), synced("tmp", "new")}[failed]
+	return []string{"", watch.Loose("tmp", "new"), watch.Synced("tmp", "new")}[failed]
 }
 
 // P12.2: whichever operation fails, with whatever number: it is answered, nothing further is done, the elder file is whole.
@@ -584,7 +504,7 @@ func TestSaveFails(t *testing.T) {
 	for failed, op := range saveOps {
 		for _, e := range anyErrors() {
 			a, w, log := elder(t)
-			w.before = func(now string) api.Errno {
+			w.Before = func(now, _ string) api.Errno {
 				if now == op {
 					return e
 				}
@@ -592,10 +512,10 @@ func TestSaveFails(t *testing.T) {
 			}
 			want(t, "Save where "+op+" fails", a.Save(0, "x", []byte("new")), e)
 			wantLog(t, "Save where "+op+" fails", log, saving(0, "x", 3, failed+1)...)
-			wantState(t, "Save where "+op+" fails", w.Sim, leftAt(failed)+synced("x", "elder"))
-			w.before = nil
+			wantState(t, "Save where "+op+" fails", w.Sim, leftAt(failed)+watch.Synced("x", "elder"))
+			w.Before = nil
 			want(t, "Save behind it", a.Save(0, "x", []byte("newer")), api.OK)
-			wantState(t, "Save behind it", w.Sim, synced("x", "newer"))
+			wantState(t, "Save behind it", w.Sim, watch.Synced("x", "newer"))
 		}
 	}
 }
@@ -604,7 +524,7 @@ func TestSaveFails(t *testing.T) {
 func TestSaveFirstError(t *testing.T) {
 	for failed, op := range saveOps {
 		a, w, log := elder(t)
-		w.before = func(now string) api.Errno {
+		w.Before = func(now, _ string) api.Errno {
 			at := slices.Index(saveOps, now)
 			if at < failed {
 				return api.OK
@@ -625,7 +545,7 @@ func TestSaveFaults(t *testing.T) {
 	for e, fault := range faults {
 		for failed, op := range saveOps {
 			a, w, log := elder(t)
-			w.before = func(now string) api.Errno {
+			w.Before = func(now, _ string) api.Errno {
 				if now == op {
 					fault(w.Sim, true)
 				}
@@ -633,15 +553,15 @@ func TestSaveFaults(t *testing.T) {
 			}
 			want(t, "Save", a.Save(0, "x", []byte("new")), e)
 			wantLog(t, "Save", log, saving(0, "x", 3, failed+1)...)
-			wantState(t, "Save", w.Sim, leftAt(failed)+synced("x", "elder"))
-			w.before = nil
+			wantState(t, "Save", w.Sim, leftAt(failed)+watch.Synced("x", "elder"))
+			w.Before = nil
 			fault(w.Sim, false)
 			w.Crash(failed)
 			if b, ok, there := w.Look("x"); string(b) != "elder" || !ok || !there {
 				t.Fatalf("behind a crash the elder file is %q, %v, %v", b, ok, there)
 			}
 			want(t, "Save behind it", a.Save(0, "x", []byte("new")), api.OK)
-			wantState(t, "Save behind it", w.Sim, synced("x", "new"))
+			wantState(t, "Save behind it", w.Sim, watch.Synced("x", "new"))
 		}
 	}
 }
@@ -655,9 +575,9 @@ func TestSaveFull(t *testing.T) {
 		put(t, s, "x", []byte("elder"))
 		f.Set(0)
 		b := string(filled(length))
-		e, ops, left := api.OK, 3, synced("x", b)
+		e, ops, left := api.OK, 3, watch.Synced("x", b)
 		if length > 10 {
-			e, ops, left = api.ErrFull, 1, synced("x", "elder")
+			e, ops, left = api.ErrFull, 1, watch.Synced("x", "elder")
 		}
 		want(t, "Save", a.Save(0, "x", []byte(b)), e)
 		wantState(t, "Save", s, left)
@@ -676,9 +596,9 @@ func TestSaveLong(t *testing.T) {
 		put(t, s, "x", []byte("elder"))
 		f.Set(0)
 		b := filled(maxFile + over)
-		e, ops, left := api.OK, 3, synced("x", string(b))
+		e, ops, left := api.OK, 3, watch.Synced("x", string(b))
 		if over > 0 {
-			e, ops, left = api.ErrLong, 1, synced("x", "elder")
+			e, ops, left = api.ErrLong, 1, watch.Synced("x", "elder")
 		}
 		want(t, "Save", a.Save(1, "x", b), e)
 		wantState(t, "Save", s, left)
@@ -691,16 +611,16 @@ func TestSaveLong(t *testing.T) {
 // P12.2: a path is the disk's to refuse: only the Rename finds that it may not be.
 func TestSavePaths(t *testing.T) {
 	for _, p := range []string{"p", "tmp2", "\x00", "\xff", strings.Repeat("p", maxPath-1), strings.Repeat("p", maxPath)} {
-		a, own, log := watch(t, shape(1, 1))
+		a, own, log := watched(t, shape(1, 1))
 		want(t, "Save", a.Save(0, p, []byte("new")), api.OK)
 		wantLog(t, "Save", log, saving(0, p, 3, 3)...)
-		wantState(t, "Save", own[0].Sim, synced(p, "new"))
+		wantState(t, "Save", own[0].Sim, watch.Synced(p, "new"))
 	}
 	for _, p := range []string{"", strings.Repeat("p", maxPath+1), strings.Repeat("p", 9999)} {
 		a, w, log := elder(t)
 		want(t, "Save", a.Save(0, p, []byte("new")), api.ErrArg)
 		wantLog(t, "Save", log, saving(0, p, 3, 3)...)
-		wantState(t, "Save", w.Sim, synced("tmp", "new")+synced("x", "elder"))
+		wantState(t, "Save", w.Sim, watch.Synced("tmp", "new")+watch.Synced("x", "elder"))
 	}
 }
 
@@ -713,9 +633,9 @@ func TestSaveCrash(t *testing.T) {
 			a := made(t, shape(1, 1), disks)
 			put(t, own[0], "x", []byte("elder"))
 			f.Set(blown)
-			e, ops, left := api.ErrCrash, blown, leftAt(min(blown, 2))+synced("x", "elder")
+			e, ops, left := api.ErrCrash, blown, leftAt(min(blown, 2))+watch.Synced("x", "elder")
 			if blown >= 3 {
-				e, ops, left = api.OK, 3, synced("x", "new")
+				e, ops, left = api.OK, 3, watch.Synced("x", "new")
 			}
 			want(t, "Save", a.Save(0, "x", []byte("new")), e)
 			wantState(t, "Save", own[0], left)
@@ -724,12 +644,12 @@ func TestSaveCrash(t *testing.T) {
 			}
 			own[0].Crash(keep)
 			if blown == 1 {
-				left = synced("tmp", "new"[:max(keep, 0)%4]) + synced("x", "elder")
+				left = watch.Synced("tmp", "new"[:max(keep, 0)%4]) + watch.Synced("x", "elder")
 			}
 			wantState(t, "Save and a crash", own[0], left)
 			f.Set(0)
 			want(t, "Save behind the crash", a.Save(0, "x", []byte("newer")), api.OK)
-			wantState(t, "Save behind the crash", own[0], synced("x", "newer"))
+			wantState(t, "Save behind the crash", own[0], watch.Synced("x", "newer"))
 		}
 	}
 }
@@ -746,7 +666,7 @@ func TestSaveBehindCrash(t *testing.T) {
 	want(t, "Format", a.Format(1), api.ErrCrash)
 	wantVoice(t, "a crash", a, 0, false, api.ErrCrash)
 	wantVoices(t, "a crash", a)
-	wantState(t, "a crash", own[0], synced("format", string(formatOf(1, 1, 0))))
+	wantState(t, "a crash", own[0], watch.Synced("format", string(formatOf(1, 1, 0))))
 	wantState(t, "a crash", own[1], "")
 }
 
@@ -754,7 +674,7 @@ func TestSaveBehindCrash(t *testing.T) {
 func TestNoSuchDisk(t *testing.T) {
 	for n := 2; n < 6; n++ {
 		for k := 1; k < n; k++ {
-			a, own, log := watch(t, shape(k, n-k))
+			a, own, log := watched(t, shape(k, n-k))
 			before := states(own)
 			for _, i := range []int{-1, n, n + 1, -n, 255, 256, -256, 1 << 32, math.MaxInt, math.MinInt} {
 				want(t, "Save", a.Save(i, "x", []byte("new")), api.ErrArg)
@@ -775,7 +695,7 @@ func TestFormatBytes(t *testing.T) {
 	own, disks := sims(3, nil)
 	a := made(t, shape(2, 1), disks)
 	want(t, "Format", a.Format(1), api.OK)
-	wantState(t, "Format", own[1], synced("format", "SBF1\x02\x01\x01\xf0\x54\xcb\xda"))
+	wantState(t, "Format", own[1], watch.Synced("format", "SBF1\x02\x01\x01\xf0\x54\xcb\xda"))
 }
 
 // P12.2: Format of each disk of each shape: the Save of its own file, and of no other's.
@@ -783,13 +703,13 @@ func TestFormat(t *testing.T) {
 	for k := 1; k < 6; k++ {
 		for m := 1; m < 6; m++ {
 			for i := range k + m {
-				a, own, log := watch(t, shape(k, m))
+				a, own, log := watched(t, shape(k, m))
 				want(t, "Format", a.Format(i), api.OK)
 				wantLog(t, "Format", log, saving(i, "format", 11, 3)...)
 				for j, w := range own {
 					wanted := ""
 					if j == i {
-						wanted = synced("format", string(formatOf(k, m, i)))
+						wanted = watch.Synced("format", string(formatOf(k, m, i)))
 					}
 					wantState(t, "Format", w.Sim, wanted)
 				}
@@ -806,7 +726,7 @@ func TestFormatGreat(t *testing.T) {
 		var all []int
 		for i := range maxShards {
 			want(t, "Format", a.Format(i), api.OK)
-			wantState(t, "Format", own[i], synced("format", string(formatOf(s.K, s.M, i))))
+			wantState(t, "Format", own[i], watch.Synced("format", string(formatOf(s.K, s.M, i))))
 			all = append(all, i)
 		}
 		wantVoices(t, "all formatted", a, all...)
@@ -817,9 +737,9 @@ func TestFormatGreat(t *testing.T) {
 func TestFormatFails(t *testing.T) {
 	for failed, op := range saveOps {
 		for _, e := range anyErrors() {
-			a, own, log := watch(t, shape(1, 2))
+			a, own, log := watched(t, shape(1, 2))
 			put(t, own[1].Sim, "format", []byte("elder"))
-			own[1].before = func(now string) api.Errno {
+			own[1].Before = func(now, _ string) api.Errno {
 				if now == op {
 					return e
 				}
@@ -837,12 +757,12 @@ func TestFormatFails(t *testing.T) {
 
 // P12.2: Format again mends what was there, and changes no other file.
 func TestFormatAgain(t *testing.T) {
-	a, own, _ := watch(t, shape(1, 1))
+	a, own, _ := watched(t, shape(1, 1))
 	put(t, own[0].Sim, "other", []byte("kept"))
 	for range 3 {
 		want(t, "Format", a.Format(0), api.OK)
 		wantVoice(t, "formatted", a, 0, true, api.OK)
-		wantState(t, "formatted", own[0].Sim, synced("format", string(formatOf(1, 1, 0)))+synced("other", "kept"))
+		wantState(t, "formatted", own[0].Sim, watch.Synced("format", string(formatOf(1, 1, 0)))+watch.Synced("other", "kept"))
 		own[0].Flip("format", 3, 0x10)
 		wantVoice(t, "one bit turned", a, 0, false, api.OK)
 	}
@@ -852,7 +772,7 @@ func TestFormatAgain(t *testing.T) {
 func TestVoice(t *testing.T) {
 	for k := 1; k < 5; k++ {
 		for m := 1; m < 5; m++ {
-			a, own, log := watch(t, shape(k, m))
+			a, own, log := watched(t, shape(k, m))
 			for i, w := range own {
 				want(t, "Write", w.Sim.Write("format", formatOf(k, m, i)), api.OK)
 				want(t, "Write", w.Sim.Write("tmp", []byte("left")), api.OK)
@@ -875,11 +795,11 @@ func TestVoice(t *testing.T) {
 // wantNoVoice asks that a disk with that file has none, and that it is no error.
 func wantNoVoice(t *testing.T, what string, k, m, i int, b []byte) {
 	t.Helper()
-	a, own, log := watch(t, shape(k, m))
+	a, own, log := watched(t, shape(k, m))
 	put(t, own[i].Sim, "format", b)
 	wantVoice(t, what, a, i, false, api.OK)
 	wantLog(t, what, log, fmt.Sprintf("%d Read format", i))
-	wantState(t, what, own[i].Sim, synced("format", string(b)))
+	wantState(t, what, own[i].Sim, watch.Synced("format", string(b)))
 	wantVoices(t, what, a)
 }
 
@@ -930,7 +850,7 @@ func TestVoiceOfBroken(t *testing.T) {
 
 // P12.2: no file is no voice, and no error, though one of a name much like it, or at tmp, is there.
 func TestVoiceOfNone(t *testing.T) {
-	a, own, log := watch(t, shape(1, 1))
+	a, own, log := watched(t, shape(1, 1))
 	wantVoice(t, "a blank disk", a, 0, false, api.OK)
 	wantLog(t, "a blank disk", log, "0 Read format")
 	for _, p := range []string{"tmp", "Format", "format2", "forma", "/format"} {
@@ -971,7 +891,7 @@ func TestVoiceErrors(t *testing.T) {
 // P12.2: offline and failing are errors while they last, of a disk with a format and of one without.
 func TestVoiceFaults(t *testing.T) {
 	for _, formatted := range []bool{true, false} {
-		a, own, log := watch(t, shape(2, 1))
+		a, own, log := watched(t, shape(2, 1))
 		if formatted {
 			want(t, "Format", a.Format(1), api.OK)
 		}
@@ -992,7 +912,7 @@ func TestVoiceFaults(t *testing.T) {
 }
 
 // befall does one of several things to disk i of an array of 3 and 3, and tells whether it still has a voice.
-func befall(t *testing.T, w *watched, i, what int) bool {
+func befall(t *testing.T, w *watch.Disk, i, what int) bool {
 	t.Helper()
 	switch what {
 	case 1:
@@ -1006,7 +926,7 @@ func befall(t *testing.T, w *watched, i, what int) bool {
 	case 5:
 		put(t, w.Sim, "format", formatOf(3, 3, (i+1)%6))
 	case 6:
-		w.before = func(string) api.Errno { return -7 }
+		w.Before = func(_, _ string) api.Errno { return -7 }
 	default:
 		return true
 	}
@@ -1018,7 +938,7 @@ func TestVoices(t *testing.T) {
 	reads := []string{"0 Read format", "1 Read format", "2 Read format", "3 Read format", "4 Read format", "5 Read format"}
 	for what := 1; what < 7; what++ {
 		for set := range 1 << 6 {
-			a, own, log := watch(t, shape(3, 3))
+			a, own, log := watched(t, shape(3, 3))
 			var voices []int
 			for i, w := range own {
 				want(t, "Format", a.Format(i), api.OK)
@@ -1041,7 +961,7 @@ func TestVoices(t *testing.T) {
 func TestVoicesMixed(t *testing.T) {
 	source := rand.New(rand.NewSource(12))
 	for range 300 {
-		a, own, _ := watch(t, shape(3, 3))
+		a, own, _ := watched(t, shape(3, 3))
 		var voices []int
 		for i, w := range own {
 			want(t, "Format", a.Format(i), api.OK)
@@ -1051,7 +971,7 @@ func TestVoicesMixed(t *testing.T) {
 		}
 		wantVoices(t, "unlike faults", a, voices...)
 		for i, w := range own {
-			w.before = nil
+			w.Before = nil
 			w.Offline(false)
 			want(t, "Format", a.Format(i), api.OK)
 		}
@@ -1061,7 +981,7 @@ func TestVoicesMixed(t *testing.T) {
 
 // P12.2: Voices of blank disks, and of disks that are all gone: none.
 func TestVoicesNone(t *testing.T) {
-	a, own, _ := watch(t, shape(2, 2))
+	a, own, _ := watched(t, shape(2, 2))
 	wantVoices(t, "blank disks", a)
 	for i, w := range own {
 		want(t, "Format", a.Format(i), api.OK)
@@ -1093,7 +1013,7 @@ func TestVoicesCrash(t *testing.T) {
 
 // R4: no two answers of Voices share memory, spare room too, nor do they share any with the array.
 func TestVoicesAreNew(t *testing.T) {
-	a, own, _ := watch(t, shape(3, 2))
+	a, own, _ := watched(t, shape(3, 2))
 	for i := range own {
 		want(t, "Format", a.Format(i), api.OK)
 	}
@@ -1203,7 +1123,7 @@ func TestDisksAreNotKept(t *testing.T) {
 			t.Fatalf("Disk(%d) is another one", i)
 		}
 		want(t, "Format", a.Format(i), api.OK)
-		wantState(t, "Format", own[i], synced("format", string(formatOf(2, 1, i))))
+		wantState(t, "Format", own[i], watch.Synced("format", string(formatOf(2, 1, i))))
 	}
 	wantVoices(t, "a row that was changed", a, 0, 1, 2)
 	wantState(t, "a disk of no array", own[3], "")
@@ -1236,7 +1156,7 @@ func TestBytesAreNotKept(t *testing.T) {
 		t.Fatal("Save changed what it was given")
 	}
 	clear(room)
-	wantState(t, "bytes that were changed", own[0], synced("x", string(before[10:30])))
+	wantState(t, "bytes that were changed", own[0], watch.Synced("x", string(before[10:30])))
 }
 
 // R5: what an array answers hangs on what its disks are now, and on nothing that it was told before.
